@@ -1,0 +1,1 @@
+"""Fewbrackets: reckonings written with no bracket too many."""
