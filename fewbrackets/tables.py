@@ -38,3 +38,10 @@ def check_one_side_a_rank(table):
     for sign, rank, side in table:
         if side_of_rank.setdefault(rank, side) != side:
             raise MixedSides(f"the sign {sign!r} has another side than a sign of the same rank")
+
+
+# Who needs the rows gets them from here alone, so that no table is used
+# unchecked.
+def rows_by_sign(table):
+    check_table(table)
+    return dict([(sign, (rank, side)) for sign, rank, side in table])

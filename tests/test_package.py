@@ -16,7 +16,7 @@ def files():
 class PackageFiles(unittest.TestCase):
     def test_the_files_of_the_interface_are_there(self):
         names = [path.name for path in files()]
-        for name in ("__init__.py", "errors.py", "tables.py"):
+        for name in ("__init__.py", "errors.py", "tables.py", "writing.py", "reading.py"):
             self.assertIn(name, names)
 
     def test_only_the_package_itself_is_imported(self):
